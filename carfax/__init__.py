@@ -1,0 +1,1 @@
+"""Carfax: cars on lanes, and many hands that move them."""
