@@ -2,6 +2,7 @@
 
 from carfax.errors import BadState
 from carfax.forms import all_differ, is_ascending, is_index, is_number, is_tuple
+from carfax.roads import free_ahead
 
 LAST_TIME = 1000000
 MOST_SPEED = 5
@@ -42,11 +43,7 @@ def place(state, car):
 
 def room(net, state, road, lane, at):
     """Return the room ahead of the car with the index `at` in its lane."""
-    row = state[1][road][lane]
-    end = net[0][road][1]
-    if at + 1 < len(row):
-        end = row[at + 1][0]
-    return end - row[at][0] - 1
+    return free_ahead(state[1][road][lane], at, net[0][road][1])
 
 
 def outside(cars, state):

@@ -57,6 +57,16 @@ GREATEST = (
 )
 
 
+def rows_with(net, told):
+    """Rows in which the cars are that are told by road and lane, and no others."""
+    return tuple(tuple(told.get((road, lane), ()) for lane in range(kind[0])) for road, kind in enumerate(net[0]))
+
+
+def state_with(net, time, told, arrived=()):
+    """A state in which the cars are on roads that are told by road and lane, and no others."""
+    return (time, rows_with(net, told), arrived)
+
+
 def nested(depth):
     """A tuple in a tuple, and so on."""
     value = ()

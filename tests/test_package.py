@@ -5,11 +5,20 @@ import inspect
 import pathlib
 import unittest
 
-from carfax import errors, nets, states
+from carfax import causes, errors, nets, reports, states, steps
 from tests import samples
 from tests.samples import LEAST, TOWN, TOWN_CARS, TOWN_STATE
 
 FOLDER = pathlib.Path(errors.__file__).parent
+
+# Cars 0 to 3 stand in a ring, and car 4 waits outside; car 6 is behind car 5, which asks to enter road 3.
+LOOP = (
+    ((1, 2, 1, 0), (1, 2, 1, 1), (1, 3, 2, 2), (1, 3, 2, -1)),
+    ((("order", (0,)), (1,)), (("order", (1,)), (0,)), (("order", (2,)), (3,))),
+)
+LOOP_CARS = ((0, (0, 1, 0)), (0, (0, 1)), (0, (1, 0)), (0, (1, 0)), (0, (0,)), (0, (2, 3)), (0, (2, 3)))
+LOOP_STATE = (3, ((((0, 0, 0, 0), (1, 1, 0, 0)),), (((0, 2, 0, 0), (1, 3, 0, 0)),), (
+    ((1, 6, 1, 0), (2, 5, 1, 0)),), ((),)), ())
 
 INTERFACE = [
     (nets, "check_net", ["value"]),
@@ -21,6 +30,15 @@ INTERFACE = [
     (states, "place", ["state", "car"]),
     (states, "room", ["net", "state", "road", "lane", "at"]),
     (states, "outside", ["cars", "state"]),
+    (steps, "changed", ["net", "cars", "state"]),
+    (steps, "asking", ["net", "cars", "time", "rows"]),
+    (steps, "let_through", ["net", "cars", "time", "rows"]),
+    (steps, "step", ["net", "cars", "state"]),
+    (steps, "run", ["net", "cars", "until"]),
+    (causes, "cause", ["net", "cars", "state", "car"]),
+    (causes, "rings", ["net", "cars", "state"]),
+    (reports, "passed", ["net", "cars", "states", "road", "cell"]),
+    (reports, "counts", ["cars", "state"]),
 ]
 
 CLASSES = ["CarfaxError", "BadNet", "BadCars", "BadState", "BadCutting", "BadMove", "TooLong"]
@@ -38,6 +56,7 @@ class InterfaceTest(unittest.TestCase):
         for module, name, _ in INTERFACE:
             with self.subTest(name=name):
                 self.assertEqual(getattr(module, name).__module__, module.__name__)
+                self.assertEqual(inspect.getsourcefile(getattr(module, name)), inspect.getsourcefile(module))
         for name in CLASSES:
             with self.subTest(name=name):
                 self.assertTrue(inspect.isclass(getattr(errors, name)))
@@ -53,6 +72,16 @@ class InterfaceTest(unittest.TestCase):
         self.assertEqual(states.place(state=TOWN_STATE, car=5), (1, 0, 4))
         self.assertEqual(states.room(net=TOWN, state=TOWN_STATE, road=2, lane=1, at=0), 5)
         self.assertEqual(states.outside(cars=TOWN_CARS, state=TOWN_STATE), [1, 3])
+        rows = steps.changed(net=TOWN, cars=TOWN_CARS, state=TOWN_STATE)
+        self.assertEqual(rows, TOWN_STATE[1])
+        self.assertEqual(steps.asking(net=TOWN, cars=TOWN_CARS, time=4, rows=rows), [(5, 1, 0, 3, 0)])
+        self.assertEqual(steps.let_through(net=TOWN, cars=TOWN_CARS, time=4, rows=rows), ([(5, 1, 0, 3, 0)], []))
+        self.assertEqual(steps.step(net=TOWN, cars=(), state=states.beginning(TOWN))[0], 1)
+        self.assertEqual(steps.run(net=TOWN, cars=TOWN_CARS, until=0), [states.beginning(TOWN)])
+        self.assertEqual(causes.cause(net=TOWN, cars=TOWN_CARS, state=TOWN_STATE, car=5), ("light", 0))
+        self.assertEqual(causes.rings(net=TOWN, cars=TOWN_CARS, state=TOWN_STATE), [])
+        self.assertEqual(reports.passed(net=TOWN, cars=TOWN_CARS, states=[TOWN_STATE], road=0, cell=0), [])
+        self.assertEqual(reports.counts(cars=TOWN_CARS, state=TOWN_STATE), (2, 5, 1))
 
 
 class NothingIsModifiedTest(unittest.TestCase):
@@ -104,6 +133,18 @@ class NothingIsModifiedTest(unittest.TestCase):
             lambda: states.outside(TOWN_CARS, states.beginning(TOWN)),
             lambda: states.room(TOWN, TOWN_STATE, 2, 1, 0),
             lambda: states.room(TOWN, TOWN_STATE, 2, 1, 1),
+        ] + calls_with_lists() + [
+            lambda: steps.changed(TOWN, TOWN_CARS, TOWN_STATE),
+            lambda: steps.changed(LOOP, LOOP_CARS, LOOP_STATE),
+            lambda: steps.step(TOWN, TOWN_CARS, TOWN_STATE),
+            lambda: steps.step(TOWN, TOWN_CARS[:7], TOWN_STATE[:2] + ((),)),
+            lambda: steps.step(LOOP, LOOP_CARS, LOOP_STATE),
+            lambda: steps.run(TOWN, TOWN_CARS[:4], 30),
+            lambda: causes.cause(TOWN, TOWN_CARS, TOWN_STATE, 5),
+            lambda: causes.cause(LOOP, LOOP_CARS, LOOP_STATE, 5),
+            lambda: causes.cause(LOOP, LOOP_CARS, LOOP_STATE, 4),
+            lambda: reports.counts(TOWN_CARS, TOWN_STATE),
+            lambda: reports.counts(LOOP_CARS, LOOP_STATE),
         ]
         first = [samples.frozen(call()) for call in calls]
         self.assertEqual([samples.frozen(call()) for call in calls], first)
@@ -130,22 +171,54 @@ class NothingIsModifiedTest(unittest.TestCase):
             lambda: nets.greens(TOWN, 2, 0),
             lambda: states.outside(TOWN_CARS, TOWN_STATE),
             lambda: states.outside((), states.beginning(TOWN)),
-        ]
-        before = samples.frozen((TOWN, TOWN_CARS, TOWN_STATE))
+        ] + calls_with_lists()
+        given = (TOWN, TOWN_CARS, TOWN_STATE, LOOP, LOOP_CARS, LOOP_STATE)
+        before = samples.frozen(given)
         for call in calls:
             answer = samples.frozen(call())
             spoil(call())
             self.assertEqual(samples.frozen(call()), answer)
-        self.assertEqual(samples.frozen((TOWN, TOWN_CARS, TOWN_STATE)), before)
+        self.assertEqual(samples.frozen(given), before)
+
+    def test_a_list_of_states_is_left_alone(self):
+        told = steps.run(TOWN, TOWN_CARS, 20)
+        before = samples.frozen(told)
+        for road in range(6):
+            spoil(reports.passed(TOWN, TOWN_CARS, told, road, 0))
+        self.assertEqual(samples.frozen(told), before)
+
+    def test_a_run_shares_no_list_with_another_one(self):
+        one, other = steps.run(TOWN, TOWN_CARS, 20), steps.run(TOWN, TOWN_CARS, 20)
+        before = samples.frozen(other)
+        spoil(one)
+        self.assertEqual(samples.frozen(other), before)
+
+
+def calls_with_lists():
+    """Calls of all functions of steps, causes and reports that return lists, with something in them."""
+    return [
+        lambda: steps.asking(TOWN, TOWN_CARS, 4, TOWN_STATE[1]),
+        lambda: steps.asking(LOOP, LOOP_CARS, 3, LOOP_STATE[1]),
+        lambda: steps.let_through(TOWN, TOWN_CARS, 3, TOWN_STATE[1]),
+        lambda: steps.let_through(TOWN, TOWN_CARS, 4, TOWN_STATE[1]),
+        lambda: steps.let_through(LOOP, LOOP_CARS, 3, LOOP_STATE[1]),
+        lambda: steps.run(TOWN, TOWN_CARS, 12),
+        lambda: steps.run(LOOP, LOOP_CARS, 12),
+        lambda: causes.rings(TOWN, TOWN_CARS, TOWN_STATE),
+        lambda: causes.rings(LOOP, LOOP_CARS, LOOP_STATE),
+        lambda: reports.passed(TOWN, TOWN_CARS, steps.run(TOWN, TOWN_CARS, 30), 2, 3),
+        lambda: reports.passed(LOOP, LOOP_CARS, steps.run(LOOP, LOOP_CARS, 30), 2, 1),
+    ]
 
 
 def spoil(told):
-    """Changes a list and the lists in it."""
+    """Changes all lists in a value."""
     for item in told:
-        if isinstance(item, list):
+        if isinstance(item, (list, tuple)):
             spoil(item)
-    told.append("changed")
-    told.reverse()
+    if isinstance(told, list):
+        told.append("changed")
+        told.reverse()
 
 
 class FilesTest(unittest.TestCase):
