@@ -1,14 +1,16 @@
 """What is decided at a single crossing: which of the cars that ask there are let through."""
 
 from carfax.nets import ends, greens
-from carfax.roads import asks
 
 
-def asked_at(net, cars, crossing, rows):
-    """Return the pairs of a road and what a car on it asks, in the order in which they are gone through."""
+def asked_at(net, crossing, asked_on):
+    """Return the pairs of a road and what a car on it asks, in the order in which they are gone through.
+
+    For a road that ends at the crossing, `asked_on` has what its cars ask.
+    """
     word, told = net[1][crossing][0]
     roads = told if word == "order" else ends(net)[crossing]
-    return [(road, ask) for road in roads for ask in asks(net, cars, road, rows[road])]
+    return [(road, ask) for road in roads for ask in asked_on[road]]
 
 
 def decided(net, crossing, time, asked, first_cars):
@@ -38,3 +40,19 @@ def decided(net, crossing, time, asked, first_cars):
             through[(onto, lane)] = car
             found.append(None)
     return found
+
+
+def crossed(net, crossing, time, asked_on, first_cars):
+    """Return the lanes whose front cars are let through, by road, and the cars that come, by the road they enter.
+
+    The cars that come are tuples (lane, car, leg, want, room), with the lane that they enter.
+    """
+    asked = asked_at(net, crossing, asked_on)
+    lets = {road: [] for road in ends(net)[crossing]}
+    comes = {road: [] for road in net[1][crossing][1]}
+    for (road, ask), why in zip(asked, decided(net, crossing, time, asked, first_cars)):
+        if why is None:
+            lane, car, leg, onto, next_lane, want, ahead = ask
+            lets[road].append(lane)
+            comes[onto].append((next_lane, car, leg, want, ahead))
+    return (lets, comes)

@@ -119,11 +119,16 @@ def first_to_enter(cars, road, time, waiting):
     return min(line)[1] if line else -1
 
 
-def entered_lanes(cars, road, time, lanes, waiting):
-    """Return the lanes behind the entering of one of the cars outside, if one may and a cell 0 is free."""
-    car = first_to_enter(cars, road, time, waiting)
-    first_cars = heads(lanes)
-    if car < 0 or -1 not in first_cars:
+def entering(cars, road, time, lanes, waiting):
+    """Return the one of the cars outside that enters the road, if one may and a cell 0 is free, or -1."""
+    if -1 not in heads(lanes):
+        return -1
+    return first_to_enter(cars, road, time, waiting)
+
+
+def entered_lanes(lanes, car):
+    """Return the lanes behind the entering of the car, or as they were if it is -1."""
+    if car < 0:
         return lanes
-    lane = first_cars.index(-1)
+    lane = heads(lanes).index(-1)
     return lanes[:lane] + (((0, car, 0, 0),) + lanes[lane],) + lanes[lane + 1:]

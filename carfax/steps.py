@@ -1,7 +1,7 @@
 """The plain run: all cars go on, step by step."""
 
-from carfax.crossings import asked_at, decided
-from carfax.roads import changed_lanes, entered_lanes, heads, leaving, moved_lanes
+from carfax.crossings import asked_at, crossed, decided
+from carfax.roads import asks, changed_lanes, entered_lanes, entering, heads, leaving, moved_lanes
 from carfax.states import beginning, outside
 
 
@@ -31,7 +31,7 @@ def step(net, cars, state):
     left = [(car, time + 1) for road, lanes in enumerate(rows) for _, car in leaving(net, cars, road, lanes)]
     waiting = outside(cars, state)
     behind = moved(net, cars, time, rows)
-    new = [entered_lanes(cars, road, time, lanes, waiting) for road, lanes in enumerate(behind)]
+    new = [entered_lanes(lanes, entering(cars, road, time, lanes, waiting)) for road, lanes in enumerate(behind)]
     return (time + 1, tuple(new), tuple(sorted(list(arrived) + left)))
 
 
@@ -51,10 +51,11 @@ def shortened(road, ask):
 
 def gone_through(net, cars, time, rows):
     """Return the tuples of a road, what a car on it asks, and its cause, or None if it is let through."""
+    asked_on = [asks(net, cars, road, lanes) for road, lanes in enumerate(rows)]
     first_cars = [heads(lanes) for lanes in rows]
     found = []
     for crossing in range(len(net[1])):
-        asked = asked_at(net, cars, crossing, rows)
+        asked = asked_at(net, crossing, asked_on)
         causes = decided(net, crossing, time, asked, first_cars)
         found.extend([(road, ask, why) for (road, ask), why in zip(asked, causes)])
     return found
@@ -62,14 +63,15 @@ def gone_through(net, cars, time, rows):
 
 def moved(net, cars, time, rows):
     """Return the rows behind the moves; those given are behind the changes of lane."""
-    gone = []
-    for road, lanes in enumerate(rows):
-        gone.append([lane for lane, _ in leaving(net, cars, road, lanes)])
+    asked_on = [asks(net, cars, road, lanes) for road, lanes in enumerate(rows)]
+    first_cars = [heads(lanes) for lanes in rows]
+    gone = [[lane for lane, _ in leaving(net, cars, road, lanes)] for road, lanes in enumerate(rows)]
     coming = [[] for _ in rows]
-    for road, ask, why in gone_through(net, cars, time, rows):
-        if why is None:
-            lane, car, leg, onto, next_lane, want, ahead = ask
-            gone[road].append(lane)
-            coming[onto].append((next_lane, car, leg, want, ahead))
+    for crossing in range(len(net[1])):
+        lets, comes = crossed(net, crossing, time, asked_on, first_cars)
+        for road, lanes in lets.items():
+            gone[road].extend(lanes)
+        for road, told in comes.items():
+            coming[road].extend(told)
     new = [moved_lanes(net, road, lanes, gone[road], coming[road]) for road, lanes in enumerate(rows)]
     return tuple(new)

@@ -83,3 +83,18 @@ def draw_state(seed, net, cars):
         for road, told in enumerate(net[0])
     )
     return (time, rows, tuple(arrived))
+
+
+def draw_cutting(seed, net):
+    """A cutting with up to four workers."""
+    pick = random.Random(f"cutting {seed}")
+    roads = len(net[0])
+    many = min(roads, pick.choice((1, 2, 2, 3, 3, 4, 4)))
+    workers = list(range(many)) + [pick.randrange(many) for _ in range(roads - many)]
+    pick.shuffle(workers)
+    return tuple(workers)
+
+
+def draw_schedule(seed, length):
+    pick = random.Random(f"schedule {seed}")
+    return [pick.randint(-10 ** 6, 10 ** 6) for _ in range(length)]

@@ -5,9 +5,10 @@ import inspect
 import pathlib
 import unittest
 
-from carfax import causes, errors, nets, reports, states, steps
+from carfax import causes, cuttings, errors, judges, nets, reports, states, steps, teams
 from tests import samples
 from tests.samples import LEAST, TOWN, TOWN_CARS, TOWN_STATE
+from tests.teamwork import MERGE, MERGE_CARS, MERGE_STATE, plain
 
 FOLDER = pathlib.Path(errors.__file__).parent
 
@@ -39,7 +40,26 @@ INTERFACE = [
     (causes, "rings", ["net", "cars", "state"]),
     (reports, "passed", ["net", "cars", "states", "road", "cell"]),
     (reports, "counts", ["cars", "state"]),
+    (cuttings, "check_cutting", ["net", "value"]),
+    (cuttings, "owner", ["net", "cutting", "crossing"]),
+    (cuttings, "letters_to", ["net", "cutting", "worker"]),
+    (cuttings, "letters_from", ["net", "cutting", "worker"]),
+    (teams, "play", ["team", "schedule"]),
+    (judges, "agrees", ["net", "cars", "cutting", "state", "until", "log", "worker"]),
 ]
+
+TEAM_METHODS = {
+    "__init__": ["net", "cars", "cutting", "ahead", "state", "until"],
+    "moves": [],
+    "move": ["index"],
+    "where": ["worker"],
+    "settled": [],
+    "state": [],
+    "log": [],
+    "pending": [],
+    "taken_back": [],
+    "copy": [],
+}
 
 CLASSES = ["CarfaxError", "BadNet", "BadCars", "BadState", "BadCutting", "BadMove", "TooLong"]
 
@@ -61,6 +81,28 @@ class InterfaceTest(unittest.TestCase):
             with self.subTest(name=name):
                 self.assertTrue(inspect.isclass(getattr(errors, name)))
                 self.assertEqual(getattr(errors, name).__module__, "carfax.errors")
+
+    def test_the_methods_of_a_team(self):
+        self.assertTrue(inspect.isclass(teams.Team))
+        self.assertEqual(teams.Team.__module__, "carfax.teams")
+        for name, arguments in TEAM_METHODS.items():
+            with self.subTest(name=name):
+                # In the class itself, not only in a base class.
+                self.assertTrue(inspect.isfunction(vars(teams.Team)[name]))
+                told = list(inspect.signature(vars(teams.Team)[name]).parameters)
+                self.assertEqual(told, ["self"] + arguments)
+
+    def test_arguments_by_their_names_in_teams(self):
+        self.assertIsNone(cuttings.check_cutting(net=MERGE, value=(0, 1, 2)))
+        self.assertEqual(cuttings.owner(net=MERGE, cutting=(2, 1, 0), crossing=0), 2)
+        self.assertEqual(cuttings.letters_to(net=MERGE, cutting=(0, 1, 2), worker=1), [("let", 1)])
+        self.assertEqual(cuttings.letters_from(net=MERGE, cutting=(0, 1, 2), worker=1), [("ask", 1)])
+        team = teams.Team(net=MERGE, cars=MERGE_CARS, cutting=(0, 1, 2), ahead=1, state=MERGE_STATE, until=6)
+        self.assertIsNone(team.move(index=1))
+        self.assertEqual(team.where(worker=1), (4, 1))
+        self.assertGreater(teams.play(team=team, schedule=[1, 2]), 10)
+        told = {"net": MERGE, "cars": MERGE_CARS, "cutting": (0, 1, 2), "state": MERGE_STATE, "until": 6}
+        self.assertTrue(judges.agrees(log=team.log(), worker=2, **told))
 
     def test_arguments_by_their_names(self):
         self.assertIsNone(nets.check_net(value=TOWN))
@@ -219,6 +261,110 @@ def spoil(told):
     if isinstance(told, list):
         told.append("changed")
         told.reverse()
+
+
+def begun(moves=40):
+    """A team in the middle of its run."""
+    team = teams.Team(MERGE, MERGE_CARS, (0, 1, 2), 3, MERGE_STATE, 12)
+    for number in range(moves):
+        team.move(7 * number % len(team.moves()))
+    return team
+
+
+class TeamsTest(unittest.TestCase):
+    """[1] for cuttings, teams and judges."""
+
+    def test_lists_belong_to_the_caller(self):
+        team = begun()
+        calls = [
+            team.moves, team.log, team.pending,
+            lambda: cuttings.letters_to(MERGE, (0, 1, 2), 0),
+            lambda: cuttings.letters_from(MERGE, (0, 1, 2), 0),
+        ]
+        other = team.copy()
+        for call in calls:
+            answer = samples.frozen(call())
+            self.assertGreater(len(call()), 0)
+            spoil(call())
+            self.assertEqual(samples.frozen(call()), answer)
+        for one in (team, other):
+            self.assertEqual(one.moves(), begun().moves())
+            self.assertEqual(one.log(), begun().log())
+            self.assertEqual(one.pending(), begun().pending())
+        self.assertEqual(teams.play(team, []), teams.play(begun(), []))
+        self.assertEqual(team.state(), plain(MERGE, MERGE_CARS, MERGE_STATE, 12))
+
+    def test_lists_of_a_team_stay_as_they_were(self):
+        # What was returned does not change when the team goes on.
+        team = begun()
+        told = [team.moves(), team.log(), team.pending()]
+        before = samples.frozen(told)
+        teams.play(team, [])
+        self.assertEqual(samples.frozen(told), before)
+
+    def test_all_of_a_state_are_tuples(self):
+        team = begun()
+        told = [team.state(), team.log()]
+        teams.play(team, [])
+        told += [team.state(), team.log()]
+        for value in told:
+            for part in value:
+                self.assertNotIn("list", samples.frozen(part))
+
+    def test_arguments_stay_as_they_were(self):
+        schedule = [5, -3, 10 ** 20] * 30
+        log = begun(0)
+        teams.play(log, [])
+        log = log.log()
+        given = (MERGE, MERGE_CARS, (0, 1, 2), MERGE_STATE, schedule, log)
+        before = samples.frozen(given)
+        team = begun(0)
+        teams.play(team, schedule)
+        self.assertEqual(samples.frozen(given), before)
+        for worker in range(3):
+            judges.agrees(MERGE, MERGE_CARS, (0, 1, 2), MERGE_STATE, 12, log, worker)
+            judges.agrees(MERGE, MERGE_CARS, (0, 1, 2), MERGE_STATE, 12, log[::-1][:9], worker)
+            cuttings.letters_to(MERGE, (0, 1, 2), worker)
+            cuttings.letters_from(MERGE, (0, 1, 2), worker)
+        cuttings.owner(MERGE, (0, 1, 2), 0)
+        self.assertEqual(samples.frozen(given), before)
+        for value in ([0, 1, 2], (0, [1], 2), [[0], 1]):
+            before = samples.frozen(value)
+            with self.assertRaises(errors.BadCutting):
+                cuttings.check_cutting(MERGE, value)
+            self.assertEqual(samples.frozen(value), before)
+
+    def test_a_schedule_and_a_log_may_change_later(self):
+        schedule = [5, -3, 10 ** 20] * 30
+        team, other = begun(0), begun(0)
+        made = teams.play(team, schedule)
+        schedule.clear()
+        self.assertEqual(teams.play(other, [5, -3, 10 ** 20] * 30), made)
+        self.assertEqual(team.log(), other.log())
+
+    def test_answers_do_not_depend_on_earlier_calls(self):
+        log = begun(0)
+        teams.play(log, [])
+        log = log.log()
+        calls = [
+            lambda: cuttings.check_cutting(MERGE, (0, 1, 2)),
+            lambda: cuttings.owner(MERGE, (0, 1, 2), 0),
+            lambda: cuttings.owner(MERGE, (1, 0, 0), 0),
+            lambda: cuttings.owner(TOWN, (1, 0, 0, 0, 0, 0), 1),
+            lambda: cuttings.letters_to(MERGE, (0, 1, 2), 0),
+            lambda: cuttings.letters_to(MERGE, (0, 1, 1), 0),
+            lambda: cuttings.letters_from(TOWN, (0, 1, 1, 0, 0, 1), 0),
+            lambda: begun(0).moves(),
+            lambda: begun().log(),
+            lambda: begun(50).pending(),
+            lambda: begun(50).state(),
+            lambda: teams.play(begun(), [1, 2, 3]),
+            lambda: judges.agrees(MERGE, MERGE_CARS, (0, 1, 2), MERGE_STATE, 12, log, 0),
+            lambda: judges.agrees(MERGE, MERGE_CARS, (0, 1, 2), MERGE_STATE, 12, log[1:], 0),
+        ]
+        first = [samples.frozen(call()) for call in calls]
+        self.assertEqual([samples.frozen(call()) for call in calls], first)
+        self.assertEqual([samples.frozen(call()) for call in calls[::-1]], first[::-1])
 
 
 class FilesTest(unittest.TestCase):
