@@ -8,7 +8,7 @@ def agrees(net, cars, cutting, state, until, log, worker):
     """Tell whether the worker agrees with the log from the state on up to the time `until`."""
     share = Share(net, cars, cutting, worker)
     last = {(time, kind, road): what for _, _, time, kind, road, what in log}
-    if not says_enough(share, range(state[0], until), last):
+    if not says_enough(share, state[0], until, last):
         return False
     known = known_at_first(share, state)
     for time in range(state[0], until):
@@ -20,9 +20,9 @@ def agrees(net, cars, cutting, state, until, log, worker):
     return True
 
 
-def says_enough(share, times, last):
-    """Tell whether at each of the times there are all letters of the worker, and it can go on by those that it gets."""
-    for time in times:
+def says_enough(share, since, until, last):
+    """Tell whether at each time before `until` all letters of the worker are there, and it can go on by them."""
+    for time in range(since, until):
         for kind, road in [pair for pairs in share.tells for pair in pairs]:
             if (time, kind, road) not in last:
                 return False
